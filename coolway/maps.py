@@ -1,6 +1,6 @@
 """Maps, and the moves and results in their states."""
 
-from coolway.errors import BadMap, BadMove, BadState
+from coolway.errors import BadLateness, BadMap, BadMove, BadState
 from coolway.kinds import is_between, is_group, is_whole
 from coolway.rules import move_results, possible_moves
 
@@ -122,6 +122,12 @@ def check_state(chart, state):
     """Raise BadState if a value is not a state of a map."""
     if not is_state(chart, state):
         raise BadState("not a state of the map")
+
+
+def check_lateness(late):
+    """Raise BadLateness if a value is not a lateness."""
+    if not is_between(late, 0, MOST_LATE):
+        raise BadLateness("not an integer from 0 to 4")
 
 
 def check_move(chart, state, move):

@@ -1,6 +1,11 @@
 """How goods, ice and hours go on: moves and results in states of a map that are checked already."""
 
 
+def first_state(late):
+    """Return the state in which the goods begin, with so many hours that may be late."""
+    return (0, 0, 0, late)
+
+
 def is_done(chart, state):
     """Return whether a state is at the goal."""
     return state[0] == chart.places - 1
@@ -13,17 +18,25 @@ def roads_from(chart, place):
 
 def possible_moves(chart, state):
     """Return the list of all moves that are possible in a state, in order."""
-    place, ice = state[:2]
-    room = chart.box[0]
-    most = 0 if chart.prices[place] is None else room - ice
+    return pairs_from(chart, state[0], chart.box[0] - state[1])
+
+
+def pairs_from(chart, place, most):
+    """Return the list of all pairs of at most so many pieces and a road at a place, in order."""
+    top = 0 if chart.prices[place] is None else most
     leading = roads_from(chart, place)
-    return [(pieces, road) for pieces in range(most + 1) for road in leading]
+    return [(pieces, road) for pieces in range(top + 1) for road in leading]
 
 
 def move_cost(chart, state, move):
     """Return what the pieces of a move cost at the place of a state."""
-    price = chart.prices[state[0]]
-    return 0 if price is None else move[0] * price
+    return pieces_cost(chart, state[0], move[0])
+
+
+def pieces_cost(chart, place, pieces):
+    """Return what so many pieces cost at a place; where there is no ice, none are bought."""
+    price = chart.prices[place]
+    return 0 if price is None else pieces * price
 
 
 def after_hour(ice, warm, melt):

@@ -1,7 +1,10 @@
 import unittest
 
+from coolway.drivers import Arrives, Fails, driver_cost, judge, next_move
 from coolway.maps import Map, moves, results
+from coolway.plans import Fixed, NoFixed, all_plans, fixed, fixed_cost, spoiling
 from coolway.sure import Spoils, Sure, sure, sure_cost
+from coolway.worths import late_pairs, late_prices, room_prices
 
 LINE = Map(3, ((0, 1, 2, 1), (1, 2, 2, 1)), (2, 5, None), (4, 0))
 TIGHT = Map(3, ((0, 1, 2, 1), (1, 2, 2, 1)), (2, 5, None), (2, 0))
@@ -98,7 +101,15 @@ class Equality(unittest.TestCase):
             self.assertTrue(one != Spoils(states))
 
     def test_of_different_classes(self):
-        objects = [LINE, Sure(0, {}, {}), Spoils([])]
+        objects = [
+            LINE,
+            Sure(0, {}, {}),
+            Spoils([]),
+            Fixed((), {}),
+            NoFixed({}),
+            Arrives(0, (), {}),
+            Fails(()),
+        ]
         for at, one in enumerate(objects):
             for other in objects[:at] + objects[at + 1 :]:
                 self.assertFalse(one == other)
@@ -115,6 +126,20 @@ class Homes(unittest.TestCase):
             (sure_cost, "coolway.sure"),
             (Sure, "coolway.sure"),
             (Spoils, "coolway.sure"),
+            (late_prices, "coolway.worths"),
+            (late_pairs, "coolway.worths"),
+            (room_prices, "coolway.worths"),
+            (all_plans, "coolway.plans"),
+            (spoiling, "coolway.plans"),
+            (fixed, "coolway.plans"),
+            (fixed_cost, "coolway.plans"),
+            (Fixed, "coolway.plans"),
+            (NoFixed, "coolway.plans"),
+            (next_move, "coolway.drivers"),
+            (judge, "coolway.drivers"),
+            (driver_cost, "coolway.drivers"),
+            (Arrives, "coolway.drivers"),
+            (Fails, "coolway.drivers"),
         ):
             self.assertEqual(thing.__module__, home)
 
@@ -123,6 +148,10 @@ class Homes(unittest.TestCase):
             (Map, ("__init__", "__len__", "__eq__", "places", "roads", "prices", "box")),
             (Sure, ("__init__", "__eq__", "shows")),
             (Spoils, ("__init__", "__eq__", "__iter__", "shows")),
+            (Fixed, ("__init__", "__eq__", "__iter__", "shows")),
+            (NoFixed, ("__init__", "__eq__", "__iter__", "shows")),
+            (Arrives, ("__init__", "__eq__", "shows")),
+            (Fails, ("__init__", "__eq__", "shows")),
         ):
             for name in names:
                 self.assertIn(name, vars(owner))

@@ -21,6 +21,36 @@ SURE = """
 [[8, 13], [14, None], [True, False, False, True, False], True]
 """
 
+PLANS = """
+>>> from coolway.maps import Map
+>>> from coolway.plans import all_plans, spoiling
+>>> line, tight, short = [Map(3, ((0, 1, 2, 1), (1, 2, 2, 1)), (2, 5, None), (room, 0)) for room in (4, 2, 1)]
+>>> full = ((4, 0), (1, 1))
+>>> [len(all_plans(line)), all_plans(short), spoiling(line, full, 1), spoiling(line, full, 2), spoiling(line, ((4, 0), (0, 1)), 1)]
+[25, [((0, 0), (0, 1)), ((1, 0), (0, 1)), ((0, 0), (1, 1)), ((1, 0), (1, 1))], None, (0, 2), (0, 1)]
+"""
+
+FIXED = """
+>>> from coolway.maps import Map
+>>> from coolway.plans import fixed, fixed_cost
+>>> from coolway.worths import late_pairs, late_prices, room_prices
+>>> line, tight, short = [Map(3, ((0, 1, 2, 1), (1, 2, 2, 1)), (2, 5, None), (room, 0)) for room in (4, 2, 1)]
+>>> [late_prices(line), late_pairs(line), room_prices(line, 0), [fixed_cost(line, late) for late in (0, 1, 2)], fixed(line, 1).shows(line, 1), fixed(tight, 1).shows(tight, 1)]
+[[8, 13, 18, None, None], [(0, 8), (1, 13), (2, 18)], [None, 14, 11, 8, 8, 8], [8, 13, 18], True, True]
+"""
+
+DRIVERS = """
+>>> from coolway.drivers import Arrives, Fails, driver_cost, judge, next_move
+>>> from coolway.maps import Map
+>>> line = Map(3, ((0, 1, 2, 1), (1, 2, 2, 1)), (2, 5, None), (4, 0))
+>>> start, drivers = (0, 0, 0, 1), ('bare', 'safe', 'fill', 'thrifty')
+>>> heights = {start: 16, (1, 1, 0, 1): 10, (1, 0, 0, 0): 10, (2, 1, 0, 1): 0, (2, 0, 0, 0): 0}
+>>> found = [[next_move(line, state, driver) for driver in drivers] for state in (start, (1, 2, 0, 1))]
+>>> shown = [Arrives(16, (0, 0), heights).shows(line, start, 'safe'), Arrives(16, (0,), heights).shows(line, start, 'safe'), Fails((1,)).shows(line, start, 'bare'), Fails((0,)).shows(line, start, 'bare')]
+>>> [found, [driver_cost(line, start, driver) for driver in drivers], [driver_cost(line, (0, 0, 0, 0), driver) for driver in drivers], shown, judge(line, start, 'fill').shows(line, start, 'fill')]
+[[[(2, 0), (3, 0), (4, 0), (4, 0)], [(0, 1), (1, 1), (2, 1), (2, 1)]], [None, 16, 23, 23], [14, 14, 18, 18], [True, False, True, False], True]
+"""
+
 
 class Examples(unittest.TestCase):
     """The examples of the document, with exactly the answers that stand there."""
@@ -36,6 +66,15 @@ class Examples(unittest.TestCase):
 
     def test_sure(self):
         self.check("sure", SURE)
+
+    def test_plans(self):
+        self.check("plans", PLANS)
+
+    def test_fixed(self):
+        self.check("fixed", FIXED)
+
+    def test_drivers(self):
+        self.check("drivers", DRIVERS)
 
 
 if __name__ == "__main__":
