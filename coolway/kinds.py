@@ -14,3 +14,8 @@ def is_between(value, low, high):
 def is_group(value, size):
     """Return whether a value is a tuple of so many items."""
     return isinstance(value, tuple) and len(value) == size
+
+
+def is_shared(value, size, most):
+    """Return whether a value is a tuple of so many integers of at least 0, together at most so much."""
+    return is_group(value, size) and all([is_between(part, 0, most) for part in value]) and sum(value) <= most

@@ -1,7 +1,7 @@
 """Plans that are fixed beforehand, the delays that spoil them, and the cheapest one that none spoils."""
 
 from coolway.errors import BadPlan, TooLarge
-from coolway.kinds import is_between, is_group
+from coolway.kinds import is_between, is_group, is_shared
 from coolway.maps import check_lateness, check_map
 from coolway.rules import first_state, move_results, pairs_from, pieces_cost
 
@@ -196,13 +196,6 @@ def after_plan(chart, plan, late, delay):
     return state
 
 
-def is_delay(plan, late, delay):
-    """Return whether a value is a delay for a plan."""
-    if not is_group(delay, len(plan)):
-        return False
-    return all([is_between(more, 0, late) for more in delay]) and sum(delay) <= late
-
-
 def doubts_hold(chart, late, doubts, plans):
     """Return whether doubts lead from exactly these plans to delays that spoil them."""
     if len(doubts) != len(plans) or not all([is_plan(chart, plan) for plan in doubts]):
@@ -212,4 +205,4 @@ def doubts_hold(chart, late, doubts, plans):
 
 def is_doubt(chart, plan, late, delay):
     """Return whether a value is a delay that spoils the goods by a plan."""
-    return is_delay(plan, late, delay) and after_plan(chart, plan, late, delay) is None
+    return is_shared(delay, len(plan), late) and after_plan(chart, plan, late, delay) is None
