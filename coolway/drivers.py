@@ -1,7 +1,7 @@
 """Drivers: fixed rules which move to make, and whether the goods arrive by them whatever is late."""
 
 from coolway.errors import BadDriver
-from coolway.evidence import are_within
+from coolway.evidence import are_within, is_within
 from coolway.kinds import is_between
 from coolway.maps import check_map, check_state
 from coolway.rules import is_done, move_cost, move_results, roads_from
@@ -28,7 +28,7 @@ class Arrives:
     def shows(self, chart, state, driver):
         """Return whether cost, delays and heights are right for a state and a driver."""
         check_judging(chart, state, driver)
-        if state not in self.heights or self.heights[state] > self.cost:
+        if not is_within(self.heights, state, self.cost):
             return False
         told = after_delays(chart, state, driver, self.delays)
         if told is None or told[0] != self.cost or told[1] is None or not is_done(chart, told[1]):

@@ -3,6 +3,16 @@
 from coolway.rules import is_done, move_cost, move_results, possible_moves
 
 
+def is_within(heights, state, most):
+    """Return whether a state has a height of at most so much."""
+    return state in heights and heights[state] <= most
+
+
+def is_reached(levels, state, number):
+    """Return whether a state has a level of at least so much, if this is greater than 0."""
+    return number <= 0 or levels.get(state, 0) >= number
+
+
 def heights_hold(chart, heights):
     """Return whether each height is enough money for its state."""
     return all([height_holds(chart, heights, state) for state in heights])
@@ -24,7 +34,7 @@ def height_holds(chart, heights, state):
 
 def are_within(heights, ends, most):
     """Return whether all results have heights of at most so much."""
-    return all([end is not None and end in heights and heights[end] <= most for end in ends])
+    return all([end is not None and is_within(heights, end, most) for end in ends])
 
 
 def levels_hold(chart, levels):

@@ -1,6 +1,6 @@
 """The least money by which the goods surely arrive unspoiled."""
 
-from coolway.evidence import heights_hold, levels_hold, states_spoil
+from coolway.evidence import heights_hold, is_reached, is_within, levels_hold, states_spoil
 from coolway.maps import check_map, check_state
 from coolway.rules import is_done, move_cost, move_results, possible_moves
 
@@ -25,9 +25,7 @@ class Sure:
         """Return whether cost, heights and levels are right for a state."""
         check_map(chart)
         check_state(chart, state)
-        if state not in self.heights or self.heights[state] > self.cost:
-            return False
-        if self.cost > 0 and self.levels.get(state, 0) < self.cost:
+        if not is_within(self.heights, state, self.cost) or not is_reached(self.levels, state, self.cost):
             return False
         return heights_hold(chart, self.heights) and levels_hold(chart, self.levels)
 
@@ -58,9 +56,8 @@ def sure(chart, state):
     costs = least_costs(chart, state)
     cost = costs[state]
     if cost is None:
-        return Spoils([at for at in costs if costs[at] is None])
-    heights = {at: costs[at] for at in costs if costs[at] is not None}
-    return Sure(cost, heights, levels_up_to(costs, cost))
+        return Spoils(states_without(costs))
+    return Sure(cost, heights_from(costs), levels_up_to(costs, cost))
 
 
 def sure_cost(chart, state):
@@ -98,6 +95,16 @@ def greatest_cost(costs, ends):
     """Return the greatest cost of the results, None if nothing is enough for one of them."""
     found = [None if end is None else costs[end] for end in ends]
     return None if None in found else max(found)
+
+
+def heights_from(costs):
+    """Return the dict of the heights that the costs give."""
+    return {state: costs[state] for state in costs if costs[state] is not None}
+
+
+def states_without(costs):
+    """Return the list of the states in which no money is enough."""
+    return [state for state in costs if costs[state] is None]
 
 
 def levels_up_to(costs, most):

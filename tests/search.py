@@ -55,6 +55,8 @@ def all_states(parts):
 class Search:
     """Asks for each amount of money whether it is enough, and so finds the least one."""
 
+    most = MOST_MONEY
+
     def __init__(self, parts):
         self.parts = parts
         self.known = {}
@@ -80,9 +82,9 @@ class Search:
         return self.known[state, money]
 
     def least(self, state):
-        if not self.enough(state, MOST_MONEY):
+        if not self.enough(state, self.most):
             return None
-        low, high = 0, MOST_MONEY
+        low, high = 0, self.most
         while low < high:
             middle = (low + high) // 2
             if self.enough(state, middle):

@@ -1,10 +1,16 @@
 import unittest
+from itertools import permutations
 
-from coolway.drivers import Arrives, Fails, driver_cost, judge, next_move
+from coolway.asking import Asked, Helps, Idle
+from coolway.drivers import Arrives, Fails
+from coolway.errors import BadMap
+from coolway.knowing import Hopeless, Known
 from coolway.maps import Map, moves, results
-from coolway.plans import Fixed, NoFixed, all_plans, fixed, fixed_cost, spoiling
+from coolway.needs import Needs
+from coolway.plans import Fixed, NoFixed
+from coolway.regrets import NoRegret, Regret
+from coolway.sessions import Session
 from coolway.sure import Spoils, Sure, sure, sure_cost
-from coolway.worths import late_pairs, late_prices, room_prices
 
 LINE = Map(3, ((0, 1, 2, 1), (1, 2, 2, 1)), (2, 5, None), (4, 0))
 TIGHT = Map(3, ((0, 1, 2, 1), (1, 2, 2, 1)), (2, 5, None), (2, 0))
@@ -109,52 +115,21 @@ class Equality(unittest.TestCase):
             NoFixed({}),
             Arrives(0, (), {}),
             Fails(()),
+            Known(0, {}, ()),
+            Hopeless(()),
+            Session(LINE, 0),
+            Session(LINE, 0).trial(),
+            Needs({}, {}, {}, []),
+            Regret(0, (), ()),
+            NoRegret(()),
+            Asked(0, {}, {}),
+            Helps(0, {}, {}),
+            Idle(0, {}, {}),
+            BadMap(None),
         ]
-        for at, one in enumerate(objects):
-            for other in objects[:at] + objects[at + 1 :]:
-                self.assertFalse(one == other)
-                self.assertTrue(one != other)
-
-
-class Homes(unittest.TestCase):
-    def test_each_is_defined_where_it_is_listed(self):
-        for thing, home in (
-            (Map, "coolway.maps"),
-            (moves, "coolway.maps"),
-            (results, "coolway.maps"),
-            (sure, "coolway.sure"),
-            (sure_cost, "coolway.sure"),
-            (Sure, "coolway.sure"),
-            (Spoils, "coolway.sure"),
-            (late_prices, "coolway.worths"),
-            (late_pairs, "coolway.worths"),
-            (room_prices, "coolway.worths"),
-            (all_plans, "coolway.plans"),
-            (spoiling, "coolway.plans"),
-            (fixed, "coolway.plans"),
-            (fixed_cost, "coolway.plans"),
-            (Fixed, "coolway.plans"),
-            (NoFixed, "coolway.plans"),
-            (next_move, "coolway.drivers"),
-            (judge, "coolway.drivers"),
-            (driver_cost, "coolway.drivers"),
-            (Arrives, "coolway.drivers"),
-            (Fails, "coolway.drivers"),
-        ):
-            self.assertEqual(thing.__module__, home)
-
-    def test_each_class_has_its_methods_itself(self):
-        for owner, names in (
-            (Map, ("__init__", "__len__", "__eq__", "places", "roads", "prices", "box")),
-            (Sure, ("__init__", "__eq__", "shows")),
-            (Spoils, ("__init__", "__eq__", "__iter__", "shows")),
-            (Fixed, ("__init__", "__eq__", "__iter__", "shows")),
-            (NoFixed, ("__init__", "__eq__", "__iter__", "shows")),
-            (Arrives, ("__init__", "__eq__", "shows")),
-            (Fails, ("__init__", "__eq__", "shows")),
-        ):
-            for name in names:
-                self.assertIn(name, vars(owner))
+        for one, other in permutations(objects, 2):
+            self.assertFalse(one == other)
+            self.assertTrue(one != other)
 
 
 if __name__ == "__main__":

@@ -1,5 +1,8 @@
 import doctest
 import unittest
+from pathlib import Path
+
+README = Path(__file__).resolve().parent.parent / "README.md"
 
 MAPS = """
 >>> from coolway.maps import Map, moves, results
@@ -51,6 +54,59 @@ DRIVERS = """
 [[[(2, 0), (3, 0), (4, 0), (4, 0)], [(0, 1), (1, 1), (2, 1), (2, 1)]], [None, 16, 23, 23], [14, 14, 18, 18], [True, False, True, False], True]
 """
 
+KNOWING = """
+>>> from coolway.knowing import Hopeless, Known, known, known_cost, not_knowing
+>>> from coolway.maps import Map
+>>> from coolway.sure import sure_cost
+>>> line, twin = Map(3, ((0, 1, 2, 1), (1, 2, 2, 1)), (2, 5, None), (4, 0)), Map(2, ((0, 1, 1, 2), (0, 1, 2, 1)), (3, None), (4, 0))
+>>> steep = Map(2, ((0, 1, 4, 2),), (1, None), (4, 0))
+>>> plans = {(0, 0): ((2, 0),), (0, 1): ((2, 0),), (1, 0): ((2, 1),)}
+>>> shown = [Known(6, plans, (0, 0)).shows(twin, 1), Known(6, {**plans, (1, 0): ((2, 0),)}, (0, 0)).shows(twin, 1), Known(9, plans, (0, 0)).shows(twin, 1), Hopeless((0,)).shows(steep, 0)]
+>>> [[known_cost(line, late) for late in (0, 1)], known_cost(twin, 1), sure_cost(twin, (0, 0, 0, 1)), not_knowing(twin, 1), known_cost(steep, 0), not_knowing(steep, 0), shown, known(line, 1).shows(line, 1)]
+[[8, 13], 6, 9, 3, None, None, [True, False, False, True], True]
+"""
+
+TEXTS = r"""
+>>> from coolway.logs import after_log, melted, spent
+>>> from coolway.maps import Map
+>>> from coolway.sessions import Session
+>>> from coolway.texts import map_text, read_map, read_state, state_text
+>>> line = Map(3, ((0, 1, 2, 1), (1, 2, 2, 1)), (2, 5, None), (4, 0))
+>>> start, log = (0, 0, 0, 1), [((4, 0), 1), ((1, 1), 0)]
+>>> session = Session(line, 1)
+>>> found = [session.drive((4, 0), 1), session.drive((0, 1), 0), session.is_there(), session.paid(), session.undo(), session.tried([((1, 1), 0)]), len(session)]
+>>> facts = [after_log(line, start, log), spent(line, start, log), melted(line, start, log)]
+>>> texts = [map_text(line), state_text(line, start), read_state(line, 'at 1 ice 4 warm 0 late 3\n'), read_map(map_text(line)) == line]
+>>> [found, facts, texts]
+[[(1, 1, 0, 0), None, False, 8, ((0, 1), 0), [(2, 0, 0, 0)], 1], [(2, 0, 0, 0), [8, 5], [3, 2]], ['places 3\nroad 0 1 2 1\nroad 1 2 2 1\nprices 2 5 -\nbox 4 0\n', 'at 0 ice 0 warm 0 late 1\n', (1, 4, 0, 3), True]]
+"""
+
+NEEDS = """
+>>> from coolway.maps import Map
+>>> from coolway.needs import need_at
+>>> chart = Map(2, ((0, 1, 2, 1),), (3, None), (3, 0))
+>>> [[need_at(chart, purse, 0, 0, 1) for purse in (0, 3, 9)], need_at(chart, 99, 0, 0, 2), need_at(chart, 0, 1, 0, 4)]
+[[3, 2, 0], None, 0]
+"""
+
+REGRETS = """
+>>> from coolway.maps import Map
+>>> from coolway.regrets import greatest_regret, paid_with, regret
+>>> chart = Map(2, ((0, 1, 2, 1),), (3, None), (3, 0))
+>>> [greatest_regret(chart, 'safe', 1), greatest_regret(chart, 'bare', 1), paid_with(chart, 'safe', 1, (0,)), regret(chart, 'safe', 1).plan]
+[3, None, 9, ((2, 0),)]
+"""
+
+ASKING = """
+>>> from coolway.asking import asked_cost, does_help, greatest_fee, judge_asking
+>>> from coolway.maps import Map
+>>> from coolway.sure import sure_cost
+>>> chart = Map(3, ((0, 1, 2, 1), (1, 2, 1, 3)), (9, 1, None), (6, 0))
+>>> start = (0, 0, 0, 1)
+>>> [[asked_cost(chart, start, fee) for fee in (0, 1, 2)], sure_cost(chart, start), [does_help(chart, start, fee) for fee in (1, 2)], [greatest_fee(chart, late) for late in (0, 1, 2)], judge_asking(chart, start, 2).number]
+[[30, 31, 32], 32, [True, False], [None, 1, None], 32]
+"""
+
 
 class Examples(unittest.TestCase):
     """The examples of the document, with exactly the answers that stand there."""
@@ -75,6 +131,24 @@ class Examples(unittest.TestCase):
 
     def test_drivers(self):
         self.check("drivers", DRIVERS)
+
+    def test_knowing(self):
+        self.check("knowing", KNOWING)
+
+    def test_texts(self):
+        self.check("texts", TEXTS)
+
+    def test_needs(self):
+        self.check("needs", NEEDS)
+
+    def test_regrets(self):
+        self.check("regrets", REGRETS)
+
+    def test_asking(self):
+        self.check("asking", ASKING)
+
+    def test_the_readme(self):
+        self.check("README", README.read_text())
 
 
 if __name__ == "__main__":

@@ -75,6 +75,9 @@ class Language(unittest.TestCase):
         for name, tree in self.trees():
             taken = [alias.name for node in ast.walk(tree) if isinstance(node, ast.ImportFrom) for alias in node.names]
             taken += [node.name for node in tree.body if isinstance(node, (ast.ClassDef, ast.FunctionDef))]
+            if name == "needs.py":
+                # The interface itself has a function and a parameter of this name.
+                taken.remove("needs")
             for node in ast.walk(tree):
                 if isinstance(node, ast.Name) and isinstance(node.ctx, ast.Store):
                     self.assertNotIn(node.id, taken, name)
