@@ -17,21 +17,32 @@ class Moment:
         self.begin = begin
 
 
+class Kept:
+    """The moment at which a with-block began, and what was kept before, if the same trial is used within itself."""
+
+    def __init__(self, moment, outer):
+        self.moment = moment
+        self.outer = outer
+
+
 class Trial:
     """A with-block at whose end a session is as at its beginning."""
 
     def __init__(self, session):
         self.session = session
+        self.kept = None
 
     def __enter__(self):
         session = self.session
         now = session._now
+        self.kept = Kept(now, self.kept)
         session._now = Moment(now.states, now.pairs, now)
         return session
 
     def __exit__(self, kind, value, trace):
         session = self.session
-        session._now = session._now.begin
+        session._now = self.kept.moment
+        self.kept = self.kept.outer
 
 
 class Session:

@@ -374,6 +374,24 @@ class Trials(unittest.TestCase):
             pass
         self.assertEqual(facts(session), facts(after(LOG[0])))
 
+    def test_blocks_that_are_not_left_in_order(self):
+        session = Session(LINE, 1)
+
+        def steps():
+            with session.trial():
+                session.drive(*LOG[1])
+                yield
+
+        with session.trial():
+            session.drive(*LOG[0])
+            inner = steps()
+            next(inner)
+            self.assertEqual(facts(session), facts(after(*LOG)))
+        self.assertEqual(facts(session), facts(Session(LINE, 1)))
+        # The inner block ends only now, and then everything is as at its own beginning.
+        inner.close()
+        self.assertEqual(facts(session), facts(after(LOG[0])))
+
     def test_it_begins_with_its_block(self):
         session = Session(LINE, 1)
         block = session.trial()
